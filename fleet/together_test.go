@@ -73,7 +73,7 @@ func TestKept(t *testing.T) {
 	holdServe(t, f, jobs, [][]byte{[]byte("again\n"), []byte("again\n")})
 }
 
-// Several Serves at a time, of one fleet and of two.
+// P20.5: several Serves at a time, of one fleet and of two.
 func TestTogether(t *testing.T) {
 	jobs := many()
 	want := alone(jobs)
